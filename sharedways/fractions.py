@@ -1,6 +1,7 @@
 """Whole numbers, and fractions: pairs of a top and an under above nought, without a common divisor but 1."""
 
 NOUGHT = (0, 1)
+ONE = (1, 1)
 
 
 # True and False are ints to Python, but no whole numbers to the document.
@@ -39,6 +40,17 @@ def plus(one, other):
 
 def minus(one, other):
     return plus(one, (-other[0], other[1]))
+
+
+def times(one, other):
+    return reduced(one[0] * other[0], one[1] * other[1])
+
+
+def total(parts):
+    found = NOUGHT
+    for part in parts:
+        found = plus(found, part)
+    return found
 
 
 def is_more(one, other):

@@ -1,7 +1,7 @@
 """Nets, the flows on them, whether a flow goes and what it brings."""
 
 from sharedways.errors import BadFlow, BadNet
-from sharedways.fractions import NOUGHT, is_fraction, is_more, is_whole, minus, plus
+from sharedways.fractions import NOUGHT, is_fraction, is_more, is_whole, minus, plus, total
 
 LEAST_PLACES = 2
 MOST_PLACES = 6
@@ -43,6 +43,10 @@ def is_net(net):
     )
 
 
+def is_pair(thing):
+    return isinstance(thing, tuple) and len(thing) == 2
+
+
 def is_triple(thing):
     return isinstance(thing, tuple) and len(thing) == 3
 
@@ -55,7 +59,7 @@ def are_ways(things, places):
     return (
         isinstance(things, list)
         and len(things) <= MOST_WAYS
-        and all([is_trip(thing, places) for thing in things])
+        and all([is_trip(thing, places, LEAST_AMOUNT, MOST_AMOUNT) for thing in things])
         and are_rising(things)
     )
 
@@ -64,18 +68,18 @@ def are_wares(things, places):
     return (
         isinstance(things, list)
         and LEAST_WARES <= len(things) <= MOST_WARES
-        and all([is_trip(thing, places) for thing in things])
+        and all([is_trip(thing, places, LEAST_AMOUNT, MOST_AMOUNT) for thing in things])
     )
 
 
 # Ways and wares have one form: from, to, and the room or what is wanted.
-def is_trip(thing, places):
+def is_trip(thing, places, least, most):
     return (
         is_triple(thing)
         and is_within(thing[0], 0, places - 1)
         and is_within(thing[1], 0, places - 1)
         and thing[0] != thing[1]
-        and is_within(thing[2], LEAST_AMOUNT, MOST_AMOUNT)
+        and is_within(thing[2], least, most)
     )
 
 
@@ -112,13 +116,13 @@ def keeps_all(net, ware, row):
 
 # What comes to the place, less what leaves it.
 def gain(ways, row, place):
-    total = NOUGHT
+    found = NOUGHT
     for way, amount in zip(ways, row):
         if way[1] == place:
-            total = plus(total, amount)
+            found = plus(found, amount)
         if way[0] == place:
-            total = minus(total, amount)
-    return total
+            found = minus(found, amount)
+    return found
 
 
 def has_room(net, flow):
@@ -126,7 +130,4 @@ def has_room(net, flow):
 
 
 def load(flow, number):
-    total = NOUGHT
-    for row in flow:
-        total = plus(total, row[number])
-    return total
+    return total([row[number] for row in flow])

@@ -2,10 +2,9 @@
 
 import unittest
 from copy import deepcopy
-from fractions import Fraction
 from itertools import product
 
-from helper import NOTHINGS, SMALL_FLOW, SMALL_NET, refusal, with_part
+from helper import NOTHINGS, SMALL_FLOW, SMALL_NET, plainly, refusal, with_part
 from sharedways.errors import BadFlow, BadNet
 from sharedways.nets import brought, goes, need_net
 
@@ -202,30 +201,13 @@ class Bringing(FlowCase):
 
 
 class AllSmallFlows(FlowCase):
-    def plainly(self, net, flow):
-        """What goes and brought should tell, reckoned place by place with Python's own fractions."""
-        places, ways, wares = net
-        fractions = [[Fraction(*amount) for amount in row] for row in flow]
-        gains = [[Fraction(0)] * places for row in flow]
-        for number, row in enumerate(fractions):
-            for (start, goal, room), amount in zip(ways, row):
-                gains[number][start] -= amount
-                gains[number][goal] += amount
-        kept = all(
-            gains[number][place] == 0
-            for number, ware in enumerate(wares) for place in range(places) if place not in ware[:2]
-        )
-        fits = all(sum(row[number] for row in fractions) <= way[2] for number, way in enumerate(ways))
-        bring = [gains[number][ware[1]] for number, ware in enumerate(wares)]
-        return kept and fits, [(each.numerator, each.denominator) for each in bring]
-
     def test_all_flows_of_few_amounts(self):
         seen = {True: 0, False: 0}
         for net in (BUSY, RING, TURNS, LINE, SHARED):
             ways, wares = len(net[1]), len(net[2])
             for amounts in product((NONE, HALF, ONE), repeat=ways * wares):
                 flow = [list(amounts[ways * ware:ways * (ware + 1)]) for ware in range(wares)]
-                wanted = self.plainly(net, flow)
+                wanted = plainly(net, flow)
                 self.assertEqual((goes(net, flow), brought(net, flow)), wanted, (net, flow))
                 seen[wanted[0]] += 1
         self.assertGreater(min(seen.values()), 50)

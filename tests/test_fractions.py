@@ -3,14 +3,10 @@
 import unittest
 from fractions import Fraction
 
-from helper import NOTHINGS
-from sharedways.fractions import NOUGHT, is_fraction, is_more, is_whole, minus, plus, reduced
+from helper import NOTHINGS, pair_of
+from sharedways.fractions import NOUGHT, ONE, is_fraction, is_more, is_whole, minus, plus, reduced, times, total
 
 SOME = [Fraction(top, under) for top in range(-7, 8) for under in range(1, 7)]
-
-
-def pair(fraction):
-    return (fraction.numerator, fraction.denominator)
 
 
 class WholeNumbers(unittest.TestCase):
@@ -49,7 +45,7 @@ class Fractions(unittest.TestCase):
     def test_all_small_pairs(self):
         for top in range(-12, 13):
             for under in range(-12, 13):
-                wanted = under > 0 and pair(Fraction(top, under)) == (top, under)
+                wanted = under > 0 and pair_of(Fraction(top, under)) == (top, under)
                 self.assertIs(is_fraction((top, under)), wanted)
 
 
@@ -57,14 +53,21 @@ class Reckoning(unittest.TestCase):
     def test_reduced(self):
         for top in range(-30, 31):
             for under in range(1, 31):
-                self.assertEqual(reduced(top, under), pair(Fraction(top, under)))
+                self.assertEqual(reduced(top, under), pair_of(Fraction(top, under)))
 
-    def test_sums_differences_and_order(self):
+    def test_sums_differences_products_and_order(self):
         for one in SOME:
             for other in SOME:
-                self.assertEqual(plus(pair(one), pair(other)), pair(one + other))
-                self.assertEqual(minus(pair(one), pair(other)), pair(one - other))
-                self.assertIs(is_more(pair(one), pair(other)), one > other)
+                self.assertEqual(plus(pair_of(one), pair_of(other)), pair_of(one + other))
+                self.assertEqual(minus(pair_of(one), pair_of(other)), pair_of(one - other))
+                self.assertEqual(times(pair_of(one), pair_of(other)), pair_of(one * other))
+                self.assertIs(is_more(pair_of(one), pair_of(other)), one > other)
+
+    def test_totals(self):
+        self.assertEqual((NOUGHT, ONE), ((0, 1), (1, 1)))
+        self.assertEqual(total([]), NOUGHT)
+        for many in range(1, len(SOME)):
+            self.assertEqual(total([pair_of(each) for each in SOME[:many]]), pair_of(sum(SOME[:many])))
 
 
 if __name__ == "__main__":

@@ -1,4 +1,4 @@
-"""The package keeps to its part of Python: those rules (L1 to L27) that can be read off its files plainly."""
+"""The package keeps to its part of Python: those rules (L1 to L28) that can be read off its files plainly."""
 
 import ast
 import builtins
@@ -8,6 +8,7 @@ from pathlib import Path
 
 PACKAGE = Path(__file__).resolve().parent.parent / "sharedways"
 FILES = sorted(path for path in PACKAGE.rglob("*") if path.is_file() and "__pycache__" not in path.parts)
+TREES = {path: ast.parse(path.read_text()) for path in FILES}
 
 NODES = set("""Module Load Store ImportFrom alias FunctionDef ClassDef arguments arg Lambda
     Assign AugAssign If While For Return Break Continue Pass Raise Try ExceptHandler Expr
@@ -29,7 +30,23 @@ METHODS = set("""append clear copy count endswith extend find get index insert i
 BARRED_WORDS = set("""type typing typing_extensions enum Enum IntEnum StrEnum Flag IntFlag Generic Protocol ABC ABCMeta
     namedtuple NamedTuple TypedDict TYPE_CHECKING abstractmethod""".split())
 
-BARRED_NAMES = set("register mro elements open input version_info with_traceback add_note sys".split())
+BARRED_NAMES = set("""register mro elements open input version_info with_traceback add_note sys attrgetter breakpoint
+    builtins compile copyright credits delattr dir eval exec exit gc getattr globals hasattr help id importlib license
+    locals methodcaller os quit setattr super vars format format_map""".split())
+
+KEYWORDS = {"sorted": {"key", "reverse"}, "min": {"key", "default"}, "max": {"key", "default"}, "sum": {"start"},
+            "enumerate": {"start"}, "zip": {"strict"}}
+
+# What is walked on the spot, and the calls that walk it: as the first thing, or alone.
+WALKED = {"zip", "enumerate", "reversed", "range", "items", "keys", "values"}
+WALKERS = {"list", "tuple", "dict", "sorted", "sum", "any", "all", "enumerate", "zip", "min", "max"}
+
+
+def called(node):
+    """The name that a call calls, or None."""
+    if not isinstance(node, ast.Call):
+        return None
+    return getattr(node.func, "id", None) or getattr(node.func, "attr", None)
 
 
 class FileRules(unittest.TestCase):
@@ -62,7 +79,7 @@ class FileRules(unittest.TestCase):
 class TreeRules(unittest.TestCase):
     def nodes(self, *kinds):
         for path in FILES:
-            for node in ast.walk(ast.parse(path.read_text())):
+            for node in ast.walk(TREES[path]):
                 if not kinds or isinstance(node, kinds):
                     yield f"{path.name}:{getattr(node, 'lineno', 0)}", node
 
@@ -126,6 +143,78 @@ class TreeRules(unittest.TestCase):
             if isinstance(node.func, ast.Attribute):
                 self.assertIn(node.func.attr, METHODS | own, where)
 
+    def test_methods_of_pythons_own_are_called_where_they_stand(self):
+        calls = [node.func for where, node in self.nodes(ast.Call)]
+        for where, node in self.nodes(ast.Attribute):
+            self.assertNotIn(node.attr, BARRED_NAMES, where)
+            self.assertTrue(node in calls or node.attr not in METHODS, where)
+
+    def test_names_of_pythons_own_are_called_and_not_kept(self):
+        calls = [node.func for where, node in self.nodes(ast.Call)]
+        kinds = [kind for where, node in self.nodes(ast.Call) if called(node) == "isinstance"
+                 for kind in ast.walk(node.args[1])]
+        bases = [base for where, node in self.nodes(ast.ClassDef) for base in node.bases]
+        for where, node in self.nodes(ast.Name):
+            if node.id in PYTHONS_OWN:
+                self.assertTrue(node in calls + kinds + bases, f"{where} {node.id}")
+
+    def test_statements_that_stand_alone_are_calls(self):
+        docstrings = [tree.body[0] for tree in TREES.values() if tree.body]
+        for where, node in self.nodes(ast.Expr):
+            self.assertTrue(isinstance(node.value, ast.Call) or node in docstrings, where)
+
+    def test_keywords(self):
+        for where, node in self.nodes(ast.Call):
+            given = {keyword.arg for keyword in node.keywords}
+            self.assertLessEqual(given, KEYWORDS.get(called(node), set()), where)
+
+    def test_walked_at_once(self):
+        walked = [node.iter for where, node in self.nodes(ast.For, ast.comprehension)]
+        walked += [node.args[0] for where, node in self.nodes(ast.Call) if called(node) in WALKERS and node.args]
+        for where, node in self.nodes(ast.Call):
+            if called(node) in WALKED:
+                self.assertIn(node, walked, where)
+
+    def test_what_a_loop_walks_is_not_changed_in_it(self):
+        for where, loop in self.nodes(ast.For):
+            names = {node.id for node in ast.walk(loop.iter) if isinstance(node, ast.Name)}
+            for node in [inner for row in loop.body for inner in ast.walk(row)]:
+                if isinstance(node, (ast.Attribute, ast.Subscript)) and isinstance(node.ctx, ast.Store):
+                    self.assertNotIn(getattr(node.value, "id", None), names, where)
+                if isinstance(node, ast.Call) and isinstance(node.func, ast.Attribute):
+                    self.assertNotIn(getattr(node.func.value, "id", None), names, where)
+
+    def test_no_sets_and_no_powers(self):
+        for where, node in self.nodes(ast.Set, ast.Pow):
+            self.fail(where)
+        for where, node in self.nodes(ast.Call):
+            self.assertNotIn(called(node), ("set", "frozenset", "chr"), where)
+
+    def test_the_top_of_a_file(self):
+        for path in FILES:
+            for number, node in enumerate(TREES[path].body):
+                docstring = number == 0 and isinstance(node, ast.Expr) and isinstance(node.value, ast.Constant)
+                fits = isinstance(node, (ast.ImportFrom, ast.FunctionDef, ast.ClassDef, ast.Assign))
+                self.assertTrue(docstring or fits, f"{path.name}:{node.lineno}")
+                if isinstance(node, ast.Assign):
+                    # Whole numbers and tuples of them: nothing there can be changed.
+                    ast.literal_eval(node.value)
+                    self.assertIsInstance(node.value, (ast.Constant, ast.Tuple), f"{path.name}:{node.lineno}")
+
+    def test_methods_with_two_underscores(self):
+        for where, node in self.nodes(ast.FunctionDef):
+            if node.name.startswith("__"):
+                self.assertEqual(node.name, "__init__", where)
+                self.assertFalse([inner for inner in ast.walk(node) if isinstance(inner, ast.Return)], where)
+
+    def test_no_name_is_a_method_and_a_value(self):
+        methods = {part.name for where, node in self.nodes(ast.ClassDef) for part in node.body
+                   if isinstance(part, ast.FunctionDef)}
+        stored = {node.attr for where, node in self.nodes(ast.Attribute) if isinstance(node.ctx, ast.Store)}
+        pythons = {name for kind in (str, int, list, dict, set, bytes, tuple) for name in vars(kind)}
+        self.assertEqual(methods & stored, set())
+        self.assertEqual((methods | stored) & pythons - {"__init__"}, set())
+
     def test_texts_hold_no_per_cent(self):
         for where, node in self.nodes(ast.Constant):
             self.assertNotIn("%", str(node.value), where)
@@ -134,7 +223,7 @@ class TreeRules(unittest.TestCase):
 class ImportRules(unittest.TestCase):
     def drawn(self, path):
         """The rows that import, each as the file's stem and the names."""
-        tree = ast.parse(path.read_text())
+        tree = TREES[path]
         rows = [node for node in ast.walk(tree) if isinstance(node, (ast.ImportFrom, ast.Import))]
         for row in rows:
             self.assertIn(row, tree.body, path.name)
@@ -144,7 +233,7 @@ class ImportRules(unittest.TestCase):
 
     def bound(self, path):
         names = []
-        for node in ast.parse(path.read_text()).body:
+        for node in TREES[path].body:
             if isinstance(node, (ast.FunctionDef, ast.ClassDef)):
                 names.append(node.name)
             if isinstance(node, ast.Assign):
@@ -164,7 +253,7 @@ class ImportRules(unittest.TestCase):
     def test_no_local_is_called_like_an_import(self):
         for path in FILES:
             names = {name for stem, some in self.drawn(path) for name in some}
-            for node in ast.walk(ast.parse(path.read_text())):
+            for node in ast.walk(TREES[path]):
                 if isinstance(node, ast.arg):
                     self.assertNotIn(node.arg, names, path.name)
                 if isinstance(node, ast.Name) and isinstance(node.ctx, ast.Store):
