@@ -4,7 +4,7 @@ A board has a row for each bound and, last, one for the goal; a column for each 
 what each bound leaves spare, and, last, one for what the row's own amount is. No amount is ever below nought.
 """
 
-from sharedways.fractions import NOUGHT, common_divisor, reduced
+from sharedways.fractions import NOUGHT, reduced
 
 
 # Each number stands for itself divided by the board's under: so the board is exact, and all of it whole.
@@ -35,10 +35,10 @@ def turned_row(row, kept, column, under):
     return [(number * kept[column] - other * row[column]) // under for number, other in zip(row, kept)]
 
 
-# The amounts, none below nought, that make the goal's sum greatest while no row's sum is more than its bound, and a
-# price for each bound, none below nought. The prices times the bounds come to the goal's sum; no amount's column
-# costs less than the goal has of it. Goal and rows hold whole numbers, bounds are fractions. Some amounts must keep
-# all bounds, and the goal must be bounded.
+# The amounts that make the goal's sum greatest while no row's sum is more than its bound, and a price for each bound,
+# none below nought: by the prices no amount's column comes to less than the goal has of it, and all bounds together
+# come to the goal's sum. Goal and rows hold whole numbers, bounds are fractions. There must be amounts that keep all
+# bounds, and the goal's sum must not grow without end.
 def best(goal, rows, bounds):
     scale = common_under(bounds)
     board = Board(goal, rows, [bound[0] * (scale // bound[1]) for bound in bounds])
@@ -50,7 +50,7 @@ def best(goal, rows, bounds):
 def common_under(fractions):
     found = 1
     for fraction in fractions:
-        found = found // common_divisor(found, fraction[1]) * fraction[1]
+        found = found * fraction[1]
     return found
 
 

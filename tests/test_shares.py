@@ -5,10 +5,10 @@ from copy import deepcopy
 from fractions import Fraction
 
 from helper import (
-    EDGE_NETS, NOTHINGS, SMALL_NET, all_rows, bends, drawn_nets, has_row, is_plain_fraction, plain_paper, plain_worth,
-    plainly, plainly_shows_share, with_part,
+    EDGE_NETS, NOTHINGS, SMALL_NET, all_rows, bends, drawn_nets, has_row, is_plain_fraction, pair_of, plain_paper,
+    plain_worth, plainly, plainly_brings, plainly_shows_share, with_part,
 )
-from sharedways.shares import greatest_share, shows_share
+from sharedways.shares import flow_row, greatest_share, raised, shows_share
 
 NONE, ONE, HALF, THIRD = (0, 1), (1, 1), (1, 2), (1, 3)
 LINE = (3, [(0, 1, 2), (1, 2, 2)], [(0, 2, 4)])
@@ -16,6 +16,14 @@ LINE_TRIPLE = (HALF, [[(2, 1), (2, 1)]], ([(1, 4), NONE], [(1, 4)]))
 TWO_ROWS = (4, [(0, 1, 2), (0, 2, 2), (1, 3, 2), (2, 3, 2)], [(0, 3, 2), (0, 3, 2)])
 RING = (3, [(0, 1, 1), (1, 2, 1), (2, 0, 1)], [(0, 2, 1), (1, 0, 1), (2, 1, 1)])
 PARTED = (3, [(0, 1, 3)], [(0, 1, 2), (1, 2, 4)])
+# Here more of a ware could go beside the greatest share, and the reckoning comes upon it: the flow may not tell it.
+OVER_FULL = [
+    (3, [(0, 1, 1), (2, 0, 2), (2, 1, 3)], [(0, 1, 1), (2, 0, 3), (2, 1, 3)]),
+    (3, [(0, 1, 1), (0, 2, 1), (1, 0, 1), (1, 2, 3), (2, 0, 1), (2, 1, 1)], [(1, 0, 3), (2, 1, 1), (0, 1, 1)]),
+    (3, [(0, 1, 5), (0, 2, 14), (1, 2, 7), (2, 0, 8), (2, 1, 17)], [(0, 2, 5), (2, 0, 9), (2, 1, 6)]),
+    (3, [(0, 1, 3), (0, 2, 3), (1, 0, 1), (1, 2, 3), (2, 0, 3), (2, 1, 3)], [(0, 1, 1), (1, 2, 2), (0, 2, 2)]),
+    (4, [(0, 2, 2), (1, 3, 2), (2, 1, 1), (3, 0, 1), (3, 1, 3)], [(2, 0, 1), (0, 2, 3), (3, 1, 3)]),
+]
 
 
 class Told(unittest.TestCase):
@@ -43,7 +51,7 @@ class Told(unittest.TestCase):
         self.assertEqual(share == NONE, not all(has_row(net, ware) for ware in net[2]), (net, told))
 
     def test_nets_at_the_edges(self):
-        for net in EDGE_NETS + [LINE, TWO_ROWS, RING, PARTED]:
+        for net in EDGE_NETS + [LINE, TWO_ROWS, RING, PARTED] + OVER_FULL:
             self.is_as_promised(net)
 
     def test_drawn_nets(self):
@@ -95,6 +103,33 @@ class Told(unittest.TestCase):
         self.share_is((2, [(1, 0, 20)], [(0, 1, 1)]), NONE)
         for wares in ([(0, 1, 2), (1, 2, 4)], [(1, 2, 4), (0, 1, 2)], [(2, 1, 3), (1, 2, 4), (0, 1, 2)]):
             self.share_is((3, [(0, 1, 3)], wares), NONE)
+
+
+class Raised(unittest.TestCase):
+    def test_what_is_held_is_brought_and_the_rest_rises(self):
+        held = (3, [(0, 1, 4), (1, 2, 9)], [(0, 2, 2), (0, 1, 2), (1, 2, 1)])
+        share, flow, paper = raised(held, [HALF, None, None])
+        self.assertEqual((share, flow), ((3, 2), [[ONE, ONE], [(3, 1), NONE], [NONE, (3, 2)]]))
+        self.assertEqual(raised(held, [HALF, ONE, None])[0], (8, 1))
+        self.assertEqual(raised(held, [None, ONE, NONE])[0], ONE)
+
+    def test_drawn_nets(self):
+        for net in OVER_FULL + drawn_nets(22, 150):
+            part = Fraction(*greatest_share(net)[0]) / 3
+            for number in range(1, len(net[2])):
+                held = [pair_of(part)] * number + [None] * (len(net[2]) - number)
+                share, flow, paper = raised(net, held)
+                self.assertTrue(plainly_brings(net, flow, [share if kept is None else kept for kept in held]))
+
+    def test_no_more_is_told_than_is_wanted(self):
+        lanes = [(0, [0]), (1, [1]), (0, [1, 2]), (0, [2])]
+        amounts = [ONE, ONE, (2, 1), ONE]
+        self.assertEqual(flow_row(3, lanes, amounts, 0, (4, 1)), [ONE, (2, 1), (3, 1)])
+        self.assertEqual(flow_row(3, lanes, amounts, 0, (7, 2)), [ONE, (2, 1), (5, 2)])
+        self.assertEqual(flow_row(3, lanes, amounts, 0, (3, 2)), [ONE, HALF, HALF])
+        self.assertEqual(flow_row(3, lanes, amounts, 0, HALF), [HALF, NONE, NONE])
+        self.assertEqual(flow_row(3, lanes, amounts, 1, THIRD), [NONE, THIRD, NONE])
+        self.assertEqual(flow_row(3, lanes, amounts, 2, NONE), [NONE, NONE, NONE])
 
 
 class Shown(unittest.TestCase):
